@@ -1,0 +1,1 @@
+"""Switchsay: sayings of what switches do with letters."""
