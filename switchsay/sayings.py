@@ -1,6 +1,6 @@
 """Sayings: their parts, and how they are looked through."""
 
-from switchsay.errors import NoTest
+from switchsay.errors import NoPlain, NoTest
 from switchsay.letters import place_of
 
 HOLDING_SORTS = ("not", "either", "then", "again")
@@ -36,8 +36,8 @@ def must_saying(speech, saying):
 def must_part(speech, part):
     if part[0] in FIELD_SORTS:
         place_of(speech, part[1], part[2])
-    if part[0] == "not" and not is_test(part[1]):
-        raise NoTest(part[1])
+    if part[0] == "not":
+        must_test(part[1])
 
 
 def is_test(saying):
@@ -46,3 +46,13 @@ def is_test(saying):
 
 def notes_in(saying):
     return len([part for part in parts_of(saying) if part[0] == "note"])
+
+
+def must_test(saying):
+    if not is_test(saying):
+        raise NoTest(saying)
+
+
+def must_plain(saying):
+    if notes_in(saying):
+        raise NoPlain(saying)

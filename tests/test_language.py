@@ -51,6 +51,17 @@ def bound_names(tree):
     return names
 
 
+def top_names(tree, *sorts):
+    return [node.name for node in tree.body if isinstance(node, sorts)]
+
+
+def called(node):
+    """The name that a call is of, or that of its method."""
+    if not isinstance(node, ast.Call):
+        return None
+    return node.func.id if isinstance(node.func, ast.Name) else getattr(node.func, "attr", None)
+
+
 def attributes_of(trees):
     """The methods and the values of objects that the package itself gives."""
     names = set()
@@ -157,6 +168,75 @@ class LanguageTest(unittest.TestCase):
         for place, node in self.nodes(ast.Attribute):
             self.assertIn(node.attr, METHODS | TWO_UNDERSCORES | own, place)
             self.assertNotIn(node.attr, UNUSED, place)
+
+    def test_no_name_is_a_method_and_a_value(self):
+        methods = {
+            one.name for _, node in self.nodes(ast.ClassDef) for one in node.body if isinstance(one, ast.FunctionDef)}
+        values = {node.attr for _, node in self.nodes(ast.Attribute) if isinstance(node.ctx, ast.Store)}
+        self.assertEqual(methods & values, set())
+
+    def test_names_are_drawn_from_the_file_that_defines_them(self):
+        for place, node in self.nodes(ast.ImportFrom):
+            file = node.module.split(".")[1] + ".py"
+            defined = top_names(self.trees[file], ast.FunctionDef, ast.ClassDef) + [
+                one.targets[0].id for one in self.trees[file].body if isinstance(one, ast.Assign)]
+            for one in node.names:
+                self.assertIn(one.name, defined, place)
+                self.assertIsNone(one.asname, place)
+
+    def test_no_two_files_draw_from_one_another(self):
+        drawn = {
+            name: {node.module.split(".")[1] + ".py" for node in tree.body if isinstance(node, ast.ImportFrom)}
+            for name, tree in self.trees.items()}
+        while drawn:
+            free = [name for name, others in drawn.items() if not others & set(drawn)]
+            self.assertTrue(free, drawn)
+            for name in free:
+                drawn.pop(name)
+
+    def test_each_name_of_the_top_once_and_no_local_like_a_class_or_an_import(self):
+        for name, tree in self.trees.items():
+            imports = [one.name for node in tree.body if isinstance(node, ast.ImportFrom) for one in node.names]
+            classes = top_names(tree, ast.ClassDef)
+            top = imports + classes + top_names(tree, ast.FunctionDef) + [
+                node.targets[0].id for node in tree.body if isinstance(node, ast.Assign)]
+            self.assertEqual(len(top), len(set(top)), name)
+            for node in ast.walk(tree):
+                if isinstance(node, (ast.FunctionDef, ast.Lambda)):
+                    for one in bound_names(node):
+                        self.assertNotIn(one, imports + classes, name)
+
+    def test_no_annotations(self):
+        for place, node in self.nodes(ast.FunctionDef):
+            self.assertIsNone(node.returns, place)
+        for place, node in self.nodes(ast.arg):
+            self.assertIsNone(node.annotation, place)
+
+    def test_walked_at_once(self):
+        walkers = ("zip", "enumerate", "reversed", "range", "items", "keys", "values")
+        takers = ("list", "tuple", "dict", "sorted", "sum", "any", "all", "enumerate", "zip", "min", "max", "join")
+        for name, tree in self.trees.items():
+            walked = []
+            for node in ast.walk(tree):
+                if isinstance(node, (ast.For, ast.comprehension)):
+                    walked.append(node.iter)
+                if called(node) in takers:
+                    walked.extend(node.args[:1])
+            for node in ast.walk(tree):
+                if called(node) in walkers:
+                    self.assertIn(node, walked, f"{name}:{node.lineno}")
+
+    def test_sets_are_not_kept(self):
+        for name, tree in self.trees.items():
+            good = []
+            for node in ast.walk(tree):
+                if called(node) in ("sorted", "len"):
+                    good.extend(ast.walk(node.args[0]))
+                if isinstance(node, ast.Compare):
+                    good.extend([node.left] + node.comparators)
+            for node in ast.walk(tree):
+                if called(node) == "set" or isinstance(node, ast.Set):
+                    self.assertIn(node, good, f"{name}:{node.lineno}")
 
 
 if __name__ == "__main__":
