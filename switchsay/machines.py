@@ -46,7 +46,7 @@ class Machine:
 
     def masks_from(self, rooms, letter):
         place = self.letters.index(letter)
-        masks = nothing(len(self.ways))
+        masks = [0] * len(self.ways)
         for room in rooms:
             masks = [mask | relation[place] for mask, relation in zip(masks, self.ways[room])]
         return masks

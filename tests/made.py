@@ -138,7 +138,8 @@ def all_trails(speech, saying, count):
 def some_test(chance, speech, size):
     field, count = chance.choice(speech)
     if size < 2:
-        return chance.choice((NONE, ALL, ("is", field, chance.randrange(count)), ("is", field, chance.randrange(count))))
+        value = chance.randrange(count)
+        return chance.choice((NONE, ALL, ("is", field, value), ("is", field, value)))
     if size == 2 or chance.random() < 0.3:
         return ("not", some_test(chance, speech, size - 1))
     left = chance.randrange(1, size - 1)

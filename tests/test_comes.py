@@ -79,7 +79,8 @@ class ComesTest(unittest.TestCase):
         self.assertEqual(comes(ONE, meeting, ("is", "f", 2), ALL), ("comes", (c, b, a, a)))
         for turns in ((2, 1), (1, 2)):
             parting = either(*[then(NOTE, ("put", "f", turn)) for turn in turns])
-            self.assertEqual(comes(ONE, then(parting, NOTE, ("put", "f", 0), NOTE), ALL, ALL), ("comes", (a, a, b, a, a)))
+            whole = then(parting, NOTE, ("put", "f", 0), NOTE)
+            self.assertEqual(comes(ONE, whole, ALL, ALL), ("comes", (a, a, b, a, a)))
 
     def test_a_from_or_a_to_that_is_so_of_no_letter(self):
         for test in (NONE, ("not", ALL), then(("is", "a", 0), ("is", "a", 1))):
@@ -91,9 +92,10 @@ class ComesTest(unittest.TestCase):
     def test_never(self):
         self.assertEqual(self.check(SMALL, NONE, ALL, ALL), "never")
         self.assertEqual(self.check(SMALL, then(NOTE, NONE), ALL, ALL), "never")
-        self.assertEqual(self.check(SMALL, ("again", then(NOTE, ("put", "a", 0))), ("is", "a", 0), ("is", "a", 1)), "never")
-        self.assertEqual(
-            self.check(SMALL, then(("again", then(anything(SMALL), NOTE)), ("put", "b", 0)), ALL, ("is", "b", 1)), "never")
+        staying = ("again", then(NOTE, ("put", "a", 0)))
+        self.assertEqual(self.check(SMALL, staying, ("is", "a", 0), ("is", "a", 1)), "never")
+        put_last = then(("again", then(anything(SMALL), NOTE)), ("put", "b", 0))
+        self.assertEqual(self.check(SMALL, put_last, ALL, ("is", "b", 1)), "never")
 
     def test_many_sayings(self):
         chance = random.Random(43)

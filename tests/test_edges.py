@@ -5,8 +5,8 @@ import time
 import unittest
 
 from made import (
-    ALL, NONE, NOTE, SPEECH, anything, chain, depth, either, in_order, letters, parts, plain_trails, some_saying, some_test,
-    then, told_size, tree)
+    ALL, NONE, NOTE, SPEECH, anything, chain, depth, either, in_order, letters, parts, plain_trails, some_saying,
+    some_test, then, told_size, tree)
 from switchsay.alike import alike, common, within
 from switchsay.comes import comes
 from switchsay.errors import NoField, TooGreat

@@ -144,7 +144,7 @@ class TooGreatTest(unittest.TestCase):
         self.begun = time.process_time()
 
     def tearDown(self):
-        self.assertLess(time.process_time() - self.begun, 20)
+        self.assertLess(time.process_time() - self.begun, 4)
 
     def refused(self, speech, saying, letter, count):
         with self.assertRaises(TooGreat) as caught:
@@ -214,7 +214,8 @@ class TooGreatTest(unittest.TestCase):
     def test_few_ends_behind_many_beginnings(self):
         any_of = anything(self.great)
         b = (0, 1, 2)
-        saying = then(any_of, NOTE, just(self.great, b), any_of, NOTE, just(self.great, A), any_of, NOTE, ("is", "a", 0))
+        to_b, to_a = just(self.great, b), just(self.great, A)
+        saying = then(any_of, NOTE, to_b, any_of, NOTE, to_a, any_of, NOTE, ("is", "a", 0))
         told = trails(self.great, saying, A, 4)
         self.assertEqual(told, [(A, b, A, c, c) for c in letters(self.great) if c[0] == 0])
 
@@ -279,7 +280,8 @@ class DoneTest(unittest.TestCase):
     def test_no_plain_wherever_the_note_stands(self):
         for saying in (
                 NOTE, then(NONE, NOTE), either(ALL, NOTE), ("again", NOTE), then(ALL, ("again", ("again", NOTE))),
-                then(("is", "gate", 0), ("is", "gate", 1), NOTE), then(NOTE, ("not", ALL)), then(NONE, ("again", NOTE))):
+                then(("is", "gate", 0), ("is", "gate", 1), NOTE), then(NOTE, ("not", ALL)),
+                then(NONE, ("again", NOTE))):
             for letter in letters(SPEECH):
                 with self.assertRaises(NoPlain) as caught:
                     done(SPEECH, saying, letter)
