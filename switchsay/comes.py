@@ -2,15 +2,12 @@
 
 from switchsay.letters import letters_of
 from switchsay.machines import Machine, first_found
-from switchsay.sayings import must_saying, must_test
+from switchsay.sayings import must_saying, must_tests
 
 
 def comes(speech, saying, first, last):
     must_saying(speech, saying)
-    must_saying(speech, first)
-    must_saying(speech, last)
-    must_test(first)
-    must_test(last)
+    must_tests(speech, (first, last))
     told = searched(Machine(speech, saying), letters_with(speech, first), letters_with(speech, last))
     if told[0] is None:
         return ("never", told[1])

@@ -11,11 +11,11 @@ from switchsay.relations import again_and_again, either_of, letters_in, nothing,
 from switchsay.sayings import held_in, must_saying, parts_of
 
 
-class Machine:
-    def __init__(self, speech, saying):
-        must_saying(speech, saying)
-        self.letters = letters_of(speech)
-        self.ways = ways_of(speech, self.letters, saying)
+# Whatever has rooms and ways has runs; a machine's ways are made of a saying.
+class Runs:
+    def __init__(self, letters, ways):
+        self.letters = letters
+        self.ways = ways
 
     def rooms(self):
         return len(self.ways)
@@ -50,6 +50,13 @@ class Machine:
         for room in rooms:
             masks = [mask | relation[place] for mask, relation in zip(masks, self.ways[room])]
         return masks
+
+
+class Machine(Runs):
+    def __init__(self, speech, saying):
+        must_saying(speech, saying)
+        letters = letters_of(speech)
+        Runs.__init__(self, letters, ways_of(speech, letters, saying))
 
 
 # From right to left the sayings in a part are done ahead of it, and the first

@@ -53,6 +53,14 @@ def must_test(saying):
         raise NoTest(saying)
 
 
+# All are looked through ahead of asking of any whether it is a test.
+def must_tests(speech, tests):
+    for test in tests:
+        must_saying(speech, test)
+    for test in tests:
+        must_test(test)
+
+
 def must_plain(saying):
     if notes_in(saying):
         raise NoPlain(saying)

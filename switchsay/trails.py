@@ -1,19 +1,21 @@
 """Trails of sayings, and what sayings without notes do."""
 
 from switchsay.errors import TooGreat
-from switchsay.letters import letters_of
 from switchsay.machines import Machine
 from switchsay.sayings import must_plain, must_saying, must_test
 
 MOST_TRAILS = 400
 
 
+def trails(speech, saying, letter, count):
+    return runs_from(Machine(speech, saying), letter, count)
+
+
 # A beginning is a tuple (letters, rooms): the letters of a trail up to its
 # last note, and the rooms in which the machine can be then. There is one for
 # each such row of letters, so no trail is told twice.
-def trails(speech, saying, letter, count):
-    machine = Machine(speech, saying)
-    ending = that_can_end(machine, letters_of(speech), count)
+def runs_from(machine, letter, count):
+    ending = that_can_end(machine, count)
     told = []
     beginnings = [((letter,), (0,))]
     for left in range(count, -1, -1):
@@ -45,10 +47,10 @@ def gone_on(machine, beginnings, ending):
 
 # For each count of notes below the one told: a dict of the pairs (room, letter)
 # from which the machine can end with at most that many notes more.
-def that_can_end(machine, letters, count):
+def that_can_end(machine, count):
     pairs = []
     for room in range(machine.rooms()):
-        pairs.extend([(room, letter) for letter in letters])
+        pairs.extend([(room, letter) for letter in machine.letters])
     layer = dict([(pair, True) for pair in pairs if machine.ends(pair[0], pair[1])])
     layers = []
     for left in range(count):

@@ -2,6 +2,9 @@
 
 import functools
 import itertools
+import unittest
+
+from switchsay.errors import NoField, NoTest, NoValue
 
 SPEECH = (("switch", 2), ("gate", 3), ("tag", 4))
 SMALL = (("a", 2), ("b", 2))
@@ -22,6 +25,15 @@ HOLDING = ("not", "either", "then", "again")
 NONE = ("none",)
 ALL = ("all",)
 NOTE = ("note",)
+FAR = 10 ** 60 - 1
+IN_NOT = ("then", NOTE, ("is", "colour", 9))
+FAULTS = (
+    (("is", "colour", FAR), NoField, "field", "colour"),
+    (("put", "", 0), NoField, "field", ""),
+    (("is", "gate", 3), NoValue, "value", 3),
+    (("put", "tag", -FAR), NoValue, "value", -FAR),
+    (("not", IN_NOT), NoTest, "saying", IN_NOT),
+)
 
 
 def held(saying):
@@ -135,6 +147,11 @@ def all_trails(speech, saying, count):
     return frozenset().union(*[plain_trails(speech, saying, letter, count) for letter in letters(speech)])
 
 
+def letters_with(speech, test):
+    """Of which the test is so."""
+    return [letter for letter in letters(speech) if plain_trails(speech, test, letter, 0)]
+
+
 def some_test(chance, speech, size):
     field, count = chance.choice(speech)
     if size < 2:
@@ -163,3 +180,95 @@ def some_saying(chance, speech, size, notes):
         chance.choice(("either", "then")),
         some_saying(chance, speech, left, on_left),
         some_saying(chance, speech, size - 1 - left, notes - on_left))
+
+
+def plain_by_table(table, letter):
+    """What the table does, as point 15 says it."""
+    for match, deeds in table:
+        if all(value in (None, own) for value, own in zip(match, letter)):
+            made = [tuple(own if value is None else value for value, own in zip(deed, letter)) for deed in deeds]
+            return sorted(set(made))
+    return []
+
+
+def plain_step(net, letter):
+    """What becomes of a letter by the rule of its switch."""
+    return sorted(trail[-1] for trail in plain_trails(net[0], net[1][letter[0]], letter, 0))
+
+
+def led(net, letter):
+    """Where its ties lead a letter."""
+    return sorted({tie[2:] + letter[2:] for tie in net[2] if tie[:2] == letter[:2]})
+
+
+def walked(net, letter, count, step):
+    """All hops, as point 18 says them, where `step` tells what the switches do."""
+    told, beginnings = [], [(letter, letter)]
+    for _ in range(count):
+        ended = [begun + (end,) for begun in beginnings for end in step(begun[-1])]
+        told.extend(ended)
+        beginnings = [hop[:-1] + (later,) for hop in ended for later in led(net, hop[-1])]
+    return in_order(set(told))
+
+
+def plain_hops(net, letter, count):
+    return walked(net, letter, count, lambda one: plain_step(net, one))
+
+
+def hops_by_tables(net, tables, letter, count):
+    return walked(net, letter, count, lambda one: plain_by_table(tables[one[0]], one))
+
+
+def onward(net, letter):
+    return {later for end in plain_step(net, letter) for later in led(net, end)}
+
+
+def how_many_hops(net, letter, count):
+    ways = {letter: 1}
+    total = 0
+    for _ in range(count):
+        total += sum(many * len(plain_step(net, one)) for one, many in ways.items())
+        later = {}
+        for one, many in ways.items():
+            for other in onward(net, one):
+                later[other] = later.get(other, 0) + many
+        ways = later
+    return total
+
+
+def some_ties(chance, speech, many):
+    return tuple(tuple(chance.randrange(speech[place % 2][1]) for place in range(4)) for _ in range(many))
+
+
+def some_net(chance, speech, size, ties):
+    """Rules of so many parts, and so many ties."""
+    rules = tuple(some_saying(chance, speech, size, 0) for _ in range(speech[0][1]))
+    return (speech, rules, some_ties(chance, speech, ties))
+
+
+def lively_net(chance, speech, size, ties):
+    """One of whose letters many come to a tie: each rule may also put a switch and a gate that a tie begins at."""
+    speech, rules, ties = some_net(chance, speech, size - 8, ties)
+    led_on = []
+    for rule in rules:
+        for tie in chance.sample(ties, min(len(ties), 1)):
+            rule = either(rule, then(("put", speech[0][0], tie[0]), ("put", speech[1][0], tie[1]), ALL))
+        led_on.append(rule)
+    return (speech, tuple(led_on), ties)
+
+
+def lists_in(told):
+    """All lists that stand in it."""
+    if not isinstance(told, (list, tuple)):
+        return []
+    inner = [one for part in told for one in lists_in(part)]
+    return [told] + inner if isinstance(told, list) else inner
+
+
+class RefusedTest(unittest.TestCase):
+    def refused(self, ask, asked, error, name, value):
+        with self.assertRaises(error) as caught:
+            ask(*asked)
+        self.assertIs(type(caught.exception), error)
+        if name:
+            self.assertEqual(getattr(caught.exception, name), value)

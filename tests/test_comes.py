@@ -2,17 +2,13 @@ import random
 import unittest
 
 from made import (
-    ALL, NONE, NOTE, SMALL, SPEECH, all_trails, anything, either, in_order, just, letters, made_to, plain_trails,
+    ALL, NONE, NOTE, SMALL, SPEECH, all_trails, anything, either, in_order, just, letters, letters_with, made_to,
     some_saying, some_test, then)
 from switchsay.comes import comes
 from switchsay.machines import Machine
 
 ONE = (("f", 3),)
 SPEECHES = (ONE, SMALL, (("x", 2), ("y", 1), ("z", 2)))
-
-
-def letters_with(speech, test):
-    return [letter for letter in letters(speech) if plain_trails(speech, test, letter, 0)]
 
 
 class ComesTest(unittest.TestCase):

@@ -2,24 +2,15 @@
 
 import unittest
 
-from made import ALL, NOTE, SPEECH, anything, either, then
+from made import ALL, FAULTS, IN_NOT, NOTE, SPEECH, RefusedTest, anything, either, then
 from switchsay.alike import alike, common, within
 from switchsay.comes import comes
-from switchsay.errors import NoField, NoPlain, NoTest, NoValue, TooGreat
+from switchsay.errors import NoPlain, NoTest, TooGreat
 from switchsay.machines import Machine
 from switchsay.trails import done, is_so, trails
 
 A = (1, 2, 3)
-FAR = 10 ** 60 - 1
 GOOD = then(("not", ("is", "gate", 0)), either(("is", "tag", 3), ("is", "tag", 1)))
-IN_NOT = then(NOTE, ("is", "colour", 9))
-FAULTS = (
-    (("is", "colour", FAR), NoField, "field", "colour"),
-    (("put", "", 0), NoField, "field", ""),
-    (("is", "gate", 3), NoValue, "value", 3),
-    (("put", "tag", -FAR), NoValue, "value", -FAR),
-    (("not", IN_NOT), NoTest, "saying", IN_NOT),
-)
 
 
 def within_others(fault):
@@ -43,14 +34,6 @@ def asks():
         (2, lambda one, other: common(SPEECH, one, other)),
         (3, lambda one, first, last: comes(SPEECH, one, first, last)),
     )
-
-
-class RefusedTest(unittest.TestCase):
-    def refused(self, ask, sayings, error, name, value):
-        with self.assertRaises(error) as caught:
-            ask(*sayings)
-        self.assertIs(type(caught.exception), error)
-        self.assertEqual(getattr(caught.exception, name), value)
 
 
 class EachPlaceTest(RefusedTest):
